@@ -1,0 +1,89 @@
+package fresh_test
+
+import (
+	"slices"
+	"testing"
+
+	"ragpicker/api"
+	"ragpicker/fresh"
+)
+
+// some is a heap with something in each list, and room behind each list's end.
+func some() api.Heap {
+	return api.Heap{
+		W:     append(make([]int, 0, 9), 25, 7, -1),
+		Pages: append(make([]api.Page, 0, 9), api.Page{Kind: api.PageSmall, Arg: 2}, api.Page{}),
+		Free:  api.Lists{append(make([]int, 0, 9), 16, 18), append(make([]int, 0, 9), 20), append(make([]int, 0, 9), 24, 32)},
+		Cards: append(make([]bool, 0, 9), true, false, true),
+	}
+}
+
+func sameLists(l, m api.Lists) bool {
+	return slices.Equal(l[0], m[0]) && slices.Equal(l[1], m[1]) && slices.Equal(l[2], m[2])
+}
+
+func same(h, g api.Heap) bool {
+	return slices.Equal(h.W, g.W) && slices.Equal(h.Pages, g.Pages) && sameLists(h.Free, g.Free) && slices.Equal(h.Cards, g.Cards)
+}
+
+// spoil writes over each list of a heap, and over the room behind its end.
+func spoil(h api.Heap) {
+	for _, l := range [][]int{h.W, h.Free[0], h.Free[1], h.Free[2]} {
+		for i := range l[:cap(l)] {
+			l[:cap(l)][i] = -77
+		}
+	}
+	for i := range h.Pages[:cap(h.Pages)] {
+		h.Pages[:cap(h.Pages)][i] = api.Page{Kind: 77, Arg: 77}
+	}
+	for i := range h.Cards[:cap(h.Cards)] {
+		h.Cards[:cap(h.Cards)][i] = !h.Cards[:cap(h.Cards)][i]
+	}
+}
+
+// R3: a copy is as what it is of, and neither hangs on what is written to the other.
+func TestHeap(t *testing.T) {
+	h := some()
+	first, second := fresh.Heap(h), fresh.Heap(h)
+	if !same(first, h) || !same(second, h) {
+		t.Fatalf("%v and %v; want %v", first, second, h)
+	}
+	spoil(first)
+	if !same(h, some()) || !same(second, some()) {
+		t.Errorf("written over a copy: %v, and another one is %v", h, second)
+	}
+	spoil(h)
+	if !same(second, some()) {
+		t.Errorf("written over what it is of: %v", second)
+	}
+}
+
+// R3: lists of a copy are its own, each of them.
+func TestLists(t *testing.T) {
+	for k := range api.Classes {
+		l := some().Free
+		own := fresh.Lists(l)
+		if !sameLists(own, some().Free) {
+			t.Fatalf("%v; want %v", own, l)
+		}
+		own[k][0] = -77
+		if !sameLists(l, some().Free) {
+			t.Errorf("written over list %d of a copy: %v", k, l)
+		}
+		l[(k+1)%api.Classes][0] = -78
+		own[k][0] = some().Free[k][0]
+		if !sameLists(own, some().Free) {
+			t.Errorf("written over what it is of: %v", own)
+		}
+	}
+}
+
+// R1: of what is nil, empty or zero a copy is just so.
+func TestNothing(t *testing.T) {
+	if h := fresh.Heap(api.Heap{}); !same(h, api.Heap{}) {
+		t.Errorf("%v", h)
+	}
+	if l := fresh.Lists(api.Lists{nil, {}, nil}); !sameLists(l, api.Lists{}) {
+		t.Errorf("%v", l)
+	}
+}
