@@ -24,3 +24,9 @@ func Lists(l api.Lists) api.Lists {
 	}
 	return l
 }
+
+// Col is c with memory of its own.
+func Col(c api.Col) api.Col {
+	c.Work = slices.Clone(c.Work)
+	return c
+}

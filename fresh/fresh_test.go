@@ -1,6 +1,7 @@
 package fresh_test
 
 import (
+	"reflect"
 	"slices"
 	"testing"
 
@@ -78,6 +79,38 @@ func TestLists(t *testing.T) {
 	}
 }
 
+// someCol is a collector with each of its parts set, and room behind Work's end.
+func someCol() api.Col {
+	return api.Col{Phase: api.Trace, Epoch: 5, Major: true, Work: append(make([]int, 0, 9), 16, 20), Over: true, At: 20, Field: 2, Seek: 24, Card: 3, Met: true}
+}
+
+// sameCol tells whether two collectors are the same, by all of their parts but Work as values, and by what is on Work.
+func sameCol(c, d api.Col) bool {
+	if !slices.Equal(c.Work, d.Work) {
+		return false
+	}
+	c.Work, d.Work = nil, nil
+	return reflect.DeepEqual(c, d)
+}
+
+// R3: a collector's copy is as what it is of, and neither hangs on what is written to the other, nor on what is put behind its Work.
+func TestCol(t *testing.T) {
+	c := someCol()
+	first, second := fresh.Col(c), fresh.Col(c)
+	if !sameCol(first, c) || !sameCol(second, c) {
+		t.Fatalf("%v and %v; want %v", first, second, c)
+	}
+	first.Work[0] = -77
+	first.Work = append(first.Work, -78)
+	if !sameCol(c, someCol()) || !sameCol(second, someCol()) || c.Work[:3][2] == -78 {
+		t.Errorf("written over a copy: %v, and another one is %v", c, second)
+	}
+	c.Work[1] = -79
+	if !sameCol(second, someCol()) {
+		t.Errorf("written over what it is of: %v", second)
+	}
+}
+
 // R1: of what is nil, empty or zero a copy is just so.
 func TestNothing(t *testing.T) {
 	if h := fresh.Heap(api.Heap{}); !same(h, api.Heap{}) {
@@ -85,5 +118,8 @@ func TestNothing(t *testing.T) {
 	}
 	if l := fresh.Lists(api.Lists{nil, {}, nil}); !sameLists(l, api.Lists{}) {
 		t.Errorf("%v", l)
+	}
+	if c := fresh.Col(api.Col{}); !sameCol(c, api.Col{}) {
+		t.Errorf("%v", c)
 	}
 }
