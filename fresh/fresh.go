@@ -30,3 +30,9 @@ func Col(c api.Col) api.Col {
 	c.Work = slices.Clone(c.Work)
 	return c
 }
+
+// Thread is t with memory of its own. Its registers are an array: a value already.
+func Thread(t api.Thread) api.Thread {
+	t.Cache, t.Do = Lists(t.Cache), slices.Clone(t.Do)
+	return t
+}

@@ -111,6 +111,39 @@ func TestCol(t *testing.T) {
 	}
 }
 
+// someThread is a thread with each of its parts set, and room behind each list's end.
+func someThread() api.Thread {
+	do := append(make([]api.Op, 0, 9), api.Op{Kind: api.Store, A: 1, B: 2, C: 3}, api.Op{Kind: api.Exit})
+	return api.Thread{Live: true, R: [4]int{16, 20, 0, 24}, Cache: some().Free, Epoch: 5, Stage: 3, Root: 2, Do: do, Pc: 4, X: 16, Y: 32}
+}
+
+// sameThread tells whether two threads are the same, by all of their parts but lists as values, and by what is on their lists.
+func sameThread(t, u api.Thread) bool {
+	if !slices.Equal(t.Do, u.Do) || !sameLists(t.Cache, u.Cache) {
+		return false
+	}
+	t.Do, u.Do, t.Cache, u.Cache = nil, nil, api.Lists{}, api.Lists{}
+	return reflect.DeepEqual(t, u)
+}
+
+// R3: a thread's copy is as what it is of, and neither hangs on what is written to the other, nor on what is put behind its operations.
+func TestThread(t *testing.T) {
+	x := someThread()
+	first, second := fresh.Thread(x), fresh.Thread(x)
+	if !sameThread(first, x) || !sameThread(second, x) {
+		t.Fatalf("%v and %v; want %v", first, second, x)
+	}
+	first.R[1], first.Do[0], first.Cache[1][0] = -77, api.Op{Kind: -77}, -77
+	first.Do = append(first.Do, api.Op{Kind: -78})
+	if !sameThread(x, someThread()) || !sameThread(second, someThread()) || x.Do[:3][2].Kind == -78 {
+		t.Errorf("written over a copy: %v, and another one is %v", x, second)
+	}
+	x.R[3], x.Do[1], x.Cache[2][1] = -79, api.Op{Kind: -79}, -79
+	if !sameThread(second, someThread()) {
+		t.Errorf("written over what it is of: %v", second)
+	}
+}
+
 // R1: of what is nil, empty or zero a copy is just so.
 func TestNothing(t *testing.T) {
 	if h := fresh.Heap(api.Heap{}); !same(h, api.Heap{}) {
@@ -121,5 +154,8 @@ func TestNothing(t *testing.T) {
 	}
 	if c := fresh.Col(api.Col{}); !sameCol(c, api.Col{}) {
 		t.Errorf("%v", c)
+	}
+	if x := fresh.Thread(api.Thread{Do: []api.Op{}}); !sameThread(x, api.Thread{}) {
+		t.Errorf("%v", x)
 	}
 }
